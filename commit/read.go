@@ -5,7 +5,9 @@ import (
 
 	"nautilus/api"
 	"nautilus/bmap"
+	"nautilus/dat"
 	"nautilus/inode"
+	"nautilus/plain"
 	"nautilus/record"
 	"nautilus/vol"
 )
@@ -33,72 +35,126 @@ func (v *Volume) reader() func(uint32) (string, api.Errno) {
 	}
 }
 
-// readFiles reads the files of a checkpoint's root.
-func readFiles(said string, read func(uint32) (string, api.Errno)) ([]api.Node, api.Errno) {
+// readerAt reads the contents of a checkpoint's files. A number that the checkpoint does not keep, or that was read already, is refused: of a right volume none is, but what was found on a disk may say anything, and such a number's block could be given away.
+func (v *Volume) readerAt(cp uint64) func(uint32) (string, api.Errno) {
+	read, dats := v.reader(), v.now.dats
+	met := make(map[uint32]struct{})
+	return func(vbn uint32) (string, api.Errno) {
+		_, again := met[vbn]
+		if vbn != 0 && (again || !keeps(dats, vbn, cp)) {
+			return "", api.ErrVol
+		}
+		met[vbn] = struct{}{}
+		return read(vbn)
+	}
+}
+
+// keeps tells whether a checkpoint keeps what a number stands for.
+func keeps(dats []api.Trans, vbn uint32, cp uint64) bool {
+	if int64(vbn) >= int64(len(dats)) {
+		return false
+	}
+	t := dats[vbn]
+	return t.Start <= cp && dat.Lives(t, []uint64{cp})
+}
+
+// readFiles reads what a checkpoint's root speaks of: its files, and where they stand.
+func readFiles(said string, read func(uint32) (string, api.Errno)) (state, api.Errno) {
 	n, err := inode.Decode(said)
 	if err != api.OK {
-		return nil, api.ErrVol
+		return state{}, api.ErrVol
 	}
-	contents, err := readContents(n, read)
+	contents, ifile, err := readContents(n, read)
 	if err != api.OK {
-		return nil, err
+		return state{}, err
 	}
 	inodes, err := vol.Inodes(contents)
 	if err != api.OK {
-		return nil, err
+		return state{}, err
 	}
-	files := make([]api.Node, len(inodes))
-	for ino, n := range inodes {
-		contents, err := readContents(n, read)
+	s := state{table: strings.Join(contents, ""), ifile: ifile}
+	for _, n := range inodes {
+		file, stands, err := readFile(n, read)
 		if err != api.OK {
-			return nil, err
+			return state{}, err
 		}
-		data, err := vol.Paste(contents, n.Size)
-		if err != api.OK {
-			return nil, err
-		}
-		if files[ino], err = vol.Node(n, data); err != api.OK {
-			return nil, err
-		}
+		s.files, s.places = append(s.files, file), append(s.places, stands)
 	}
-	return vol.Trim(files), api.OK
+	s.files = vol.Trim(s.files)
+	if !isTable(n, inodes[:len(s.files)]) || !plain.Right(s.files) {
+		return state{}, api.ErrVol
+	}
+	s.places = s.places[:len(s.files)]
+	return s, api.OK
 }
 
-// readContents reads the contents of an inode's file.
-func readContents(n api.Inode, read func(uint32) (string, api.Errno)) ([]string, api.Errno) {
-	if n.Size > api.MaxFile { // more than any file of a volume has
-		return nil, api.ErrVol
-	}
-	blocks, err := readMap(n, read)
+// isTable tells whether n is the inode of a file of inodes, of these.
+func isTable(n api.Inode, l []api.Inode) bool {
+	contents, err := vol.Table(l)
 	if err != api.OK {
-		return nil, err
+		return false
+	}
+	made, err := vol.Inode(api.Node{Kind: api.File, Data: strings.Join(contents, "")}, n.Map)
+	return err == api.OK && made == n
+}
+
+// readFile reads an inode's file, and where it stands.
+func readFile(n api.Inode, read func(uint32) (string, api.Errno)) (api.Node, place, api.Errno) {
+	contents, stands, err := readContents(n, read)
+	if err != api.OK {
+		return api.Node{}, place{}, err
+	}
+	data, err := vol.Paste(contents, n.Size)
+	if err != api.OK {
+		return api.Node{}, place{}, err
+	}
+	file, err := vol.Node(n, data)
+	if err != api.OK {
+		return api.Node{}, place{}, err
+	}
+	return file, stands, api.OK
+}
+
+// readContents reads the contents of an inode's file, and where it stands.
+func readContents(n api.Inode, read func(uint32) (string, api.Errno)) ([]string, place, api.Errno) {
+	if n.Size > api.MaxFile { // more than any file of a volume has
+		return nil, place{}, api.ErrVol
+	}
+	ids, blocks, err := readMap(n, read)
+	if err != api.OK {
+		return nil, place{}, err
 	}
 	vbns, err := bmap.Join(n.Size, n.Map, blocks)
 	if err != api.OK {
-		return nil, api.ErrVol
+		return nil, place{}, api.ErrVol
 	}
-	return readAll(vbns, read)
+	contents, err := readAll(vbns, read)
+	if err != api.OK {
+		return nil, place{}, err
+	}
+	return contents, place{vbns, ids, n.Map}, api.OK
 }
 
-// readMap reads the blocks of an inode's map.
-func readMap(n api.Inode, read func(uint32) (string, api.Errno)) ([]string, api.Errno) {
+// readMap reads the blocks of an inode's map, and their numbers.
+func readMap(n api.Inode, read func(uint32) (string, api.Errno)) ([]uint32, []string, api.Errno) {
 	count := bmap.Count(n.Size)
 	if count == 0 {
-		return nil, api.OK
+		return nil, nil, api.OK
 	}
-	top, err := readAll(n.Map[:1], read)
+	ids := []uint32{n.Map[0]}
+	blocks, err := readAll(ids, read)
 	if err != api.OK || count == 1 {
-		return top, err
+		return ids, blocks, err
 	}
-	ids, err := bmap.Below(n.Size, top[0])
+	below, err := bmap.Below(n.Size, blocks[0])
 	if err != api.OK {
-		return nil, api.ErrVol
+		return nil, nil, api.ErrVol
 	}
-	lower, err := readAll(ids, read)
+	lower, err := readAll(below, read)
 	if err != api.OK {
-		return nil, err
+		return nil, nil, err
 	}
-	return append(top, lower...), api.OK
+	return append(ids, below...), append(blocks, lower...), api.OK
 }
 
 func readAll(vbns []uint32, read func(uint32) (string, api.Errno)) ([]string, api.Errno) {

@@ -17,7 +17,7 @@ func (v *Volume) bring(w *draft) api.Errno {
 	}
 	cp, last := w.now.newest().Cp, len(w.pen.pages)-1
 	return v.attempt(func() api.Errno {
-		b, err := super.Encode(api.Super{Blocks: w.blocks, Seq: v.supers + 1, At: w.now.at, Cp: cp})
+		b, err := v.superOf(w.now)
 		if err != api.OK {
 			return err
 		}
@@ -37,6 +37,9 @@ func (v *Volume) bring(w *draft) api.Errno {
 
 // attempt does what writes. Behind an error the log is back where it was. What was written from there on is known, to be taken back.
 func (v *Volume) attempt(writes func() api.Errno) api.Errno {
+	if err := v.begin(); err != api.OK {
+		return err
+	}
 	if err := v.settle(); err != api.OK {
 		return err
 	}
@@ -50,6 +53,35 @@ func (v *Volume) attempt(writes func() api.Errno) api.Errno {
 		v.log = l
 	}
 	return err
+}
+
+// superOf is the next super block, of that state's root.
+func (v *Volume) superOf(s state) (string, api.Errno) {
+	return super.Encode(api.Super{Blocks: v.d.Blocks(), Seq: v.supers + 1, At: s.at, Cp: s.newest().Cp})
+}
+
+// begin makes what was found stay, ahead of all else that is written: what a call left loose when the power went, and a root of which no super block speaks yet.
+func (v *Volume) begin() api.Errno {
+	if !v.found {
+		return api.OK
+	}
+	if v.d.Loose() > 0 {
+		if err := v.d.Flush(); err != api.OK {
+			return err
+		}
+	}
+	if v.older {
+		b, err := v.superOf(v.now)
+		if err != api.OK {
+			return err
+		}
+		if err := lay(v.d, super.Place(v.supers+1), b); err != api.OK {
+			return err
+		}
+		v.supers++
+	}
+	v.found, v.older = false, false
+	return api.OK
 }
 
 // settle takes back what a call that was not done has left, the last block first, each flushed: else its end could be found with another beginning, or a super block without the record that it speaks of.
